@@ -61,7 +61,7 @@ func (w *Writer) Bytes() []byte {
 	return copied(w.bytes)
 }
 
-// Reader has bytes.
+// Reader has bytes. Nothing writes into them, so that a copy of a Reader goes on by itself: who looks ahead with one has not moved the other.
 type Reader struct {
 	bytes []byte
 	at    int

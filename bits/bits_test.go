@@ -477,6 +477,16 @@ func TestReadersAreAlone(t *testing.T) {
 	isAt(t, p, b, 5)
 }
 
+func TestACopyOfAReaderIsAlone(t *testing.T) {
+	b := []byte{0x12, 0x34}
+	p := reader(t, b, 5)
+	q := *p
+	get(t, &q, 9, 0x8D)
+	isAt(t, p, b, 5)
+	get(t, p, 3, 2)
+	isAt(t, &q, b, 14)
+}
+
 func TestNilReader(t *testing.T) {
 	var r *bits.Reader
 	for _, n := range append([]int{0, 1, 64}, wrongWidths...) {
